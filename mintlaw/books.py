@@ -1,6 +1,6 @@
 """Names, books, stocks, extended stocks and runs: what is one and what is none."""
 
-from mintlaw.integers import is_integer
+from mintlaw.integers import are_integers, is_integer
 
 LETTERS = "abcdefghijklmnopqrstuvwxyz"
 NAME_SIGNS = "abcdefghijklmnopqrstuvwxyz0123456789"
@@ -10,6 +10,7 @@ MOST_KINDS = 6
 MOST_MOVES = 8
 MOST_UNITS = 1000
 MOST_DEPTH = 30
+ENDLESS = -1
 
 
 def is_name(value):
@@ -60,24 +61,17 @@ def is_move(value, width):
 
 def are_units(value, width):
     """Tell whether any value is what a move may take or give."""
-    return are_entries(value, width, 0) and max(value) <= MOST_UNITS
-
-
-def are_entries(value, width, low):
-    """Tell whether any value is a tuple of so many integers from `low` on."""
-    if not isinstance(value, tuple) or len(value) != width:
-        return False
-    return all(is_integer(entry) and entry >= low for entry in value)
+    return are_integers(value, width, 0) and max(value) <= MOST_UNITS
 
 
 def is_stock(book, value):
     """Tell whether any value is a stock of the book."""
-    return are_entries(value, len(book[0]), 0)
+    return are_integers(value, len(book[0]), 0)
 
 
 def is_extended(book, value):
     """Tell whether any value is an extended stock of the book."""
-    return are_entries(value, len(book[0]), -1)
+    return are_integers(value, len(book[0]), ENDLESS)
 
 
 def is_run(book, value):

@@ -10,6 +10,21 @@ def is_integer(value):
     return isinstance(value, int) and not isinstance(value, bool)
 
 
+def are_integers(value, width, low):
+    """Tell whether any value is a tuple of so many integers from `low` on."""
+    if not isinstance(value, tuple) or len(value) != width:
+        return False
+    return all(is_integer(entry) and entry >= low for entry in value)
+
+
+def are_fractions(value, width):
+    """Tell whether any value is a pair of so many integers from 0 on and their denominator, from 1 on."""
+    if not isinstance(value, tuple) or len(value) != 2:
+        return False
+    numbers, over = value
+    return are_integers(numbers, width, 0) and is_integer(over) and over >= 1
+
+
 def print_number(number):
     """Return the decimal digits of an integer of any size, from 0 on."""
     # Python refuses to convert integers of several thousand digits at once.

@@ -1,10 +1,9 @@
 """The texts of books, stocks, extended stocks and runs, and reading them."""
 
-from mintlaw.books import MOST_DEPTH, MOST_UNITS, NAME_SIGNS, is_book, is_move, move_index
+from mintlaw.books import ENDLESS, MOST_DEPTH, MOST_UNITS, NAME_SIGNS, is_book, is_move, move_index
 from mintlaw.errors import BadText
 from mintlaw.integers import print_number, read_number
 
-ENDLESS = -1
 MOST_NUMBER = 10 ** 30
 
 

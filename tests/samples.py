@@ -10,6 +10,17 @@ NO_INTEGERS = (True, False, None, "1", "", (), (1,))
 
 SHOP = (("wood", "gold"), (("saw", (2, 0), (3, 0), (3, 0)), ("sell", (5, 0), (0, 1), (0, 2))))
 BARE = (("a",), ())
+# A price of 2 for wood leaves a price from 3 to 4 for gold.
+CLOSED = (("wood", "gold"), (("sell", (2, 0), (0, 1), (0, 1)), ("buy", (0, 2), (3, 0), (3, 0))))
+# Wood and gold are turned to each other and nothing is gained; with gold in hand, a gem makes another one.
+MINT = (
+    ("wood", "gold", "gem"),
+    (
+        ("sell", (2, 0, 0), (0, 1, 0), (0, 1, 0)),
+        ("melt", (0, 1, 0), (0, 0, 0), (2, 0, 0)),
+        ("grow", (0, 1, 1), (0, 1, 2), (0, 1, 2)),
+    ),
+)
 FULL = (
     ("a", "b2", "cc", "d", "e", "f"),
     (
@@ -59,25 +70,25 @@ def some_entries(dice, width, most):
     return tuple(dice.choice((0, 1, dice.randint(0, most), most)) for _ in range(width))
 
 
-def some_book(dice, width, many):
-    """Return a right book of so many kinds and moves."""
+def some_book(dice, width, many, greatest=1000):
+    """Return a right book of so many kinds and moves, with entries up to the greatest one."""
     names = some_names(dice, width + many)
     moves = []
     for name in names[width:]:
-        take = some_entries(dice, width, 1000)
-        most = some_entries(dice, width, 1000)
+        take = some_entries(dice, width, greatest)
+        most = some_entries(dice, width, greatest)
         least = tuple(dice.choice((high, dice.randint(0, high))) for high in most)
         moves.append((name, take, least, most))
     return (tuple(names[:width]), tuple(moves))
 
 
-def some_run(dice, many, depth):
-    """Return a right run for so many moves, nested at most so deep."""
+def some_run(dice, many, depth, most=10 ** 30):
+    """Return a right run for so many moves, nested at most so deep, with counts up to `most`."""
     steps = []
     for _ in range(dice.randint(1, 3)):
         if depth > 1 and dice.random() < 0.4:
-            times = dice.choice((1, 2, dice.randint(1, 10 ** 30), 10 ** 30))
-            steps.append(("rep", times, some_run(dice, many, depth - 1)))
+            times = dice.choice((1, 2, dice.randint(1, most), most))
+            steps.append(("rep", times, some_run(dice, many, depth - 1, most)))
         else:
             steps.append(("do", dice.randrange(many)))
     return tuple(steps)
@@ -135,6 +146,54 @@ def right_runs(book):
     return runs
 
 
+def small_plays(seed, many):
+    """Return so many triples of a book, a stock and a run that is short when it is played."""
+    return some_plays(seed, many, (0, 3, 20, 3000), 4, (4,))
+
+
+def great_plays(seed, many):
+    """Return so many triples of a book, a stock and a run that may be very long."""
+    return some_plays(seed, many, (10, 1000, 10 ** 9, 10 ** 20, 10 ** 60), 6, (10, 10 ** 9, 10 ** 20))
+
+
+def some_plays(seed, many, units, depth, counts):
+    """Return so many triples of a book, a stock with up to so many units, and a run with counts up to these."""
+    dice = Random(seed)
+    plays = []
+    for _ in range(many):
+        book = some_book(dice, dice.randint(1, 6), dice.randint(1, 8), dice.choice((1, 2, 3, 1000)))
+        stock = some_entries(dice, len(book[0]), dice.choice(units))
+        plays.append((book, stock, some_run(dice, len(book[1]), dice.randint(1, depth), dice.choice(counts))))
+    return plays
+
+
+def moves_of(run):
+    """Return the list of the moves of a run that is short when it is played."""
+    moves = []
+    for step in run:
+        moves.extend([step[1]] if step[0] == "do" else moves_of(step[2]) * step[1])
+    return moves
+
+
+def gains_of(book):
+    """Return what each move gives at most, less what it takes."""
+    return [tuple(more - units for more, units in zip(most, take)) for _, take, _, most in book[1]]
+
+
+def in_form(value, width):
+    """Tell whether a value is a tuple of so many integers from 0 on."""
+    return type(value) is tuple and len(value) == width and all(type(entry) is int and entry >= 0 for entry in value)
+
+
+def spoilt(value, others=(True, False, None, "", "1", (), -1)):
+    """Return the values that differ from a value made of tuples in one place."""
+    if not isinstance(value, tuple):
+        return [other for other in others if repr(other) != repr(value)]
+    values = [value[:at] + (other,) + value[at + 1:] for at in range(len(value)) for other in spoilt(value[at], others)]
+    values.extend(value[:at] + value[at + 1:] for at in range(len(value)))
+    return [*values, (*value, 0), (*value, ()), None, True, 0, ""]
+
+
 def wrapped(value, times):
     """Return a value within so many tuples."""
     for _ in range(times):
@@ -157,9 +216,9 @@ def odd_values():
               (("wood", "gold"),), (("wood", "gold"), (), ()), ((), ()), ("", ""), (("do", "do"),),
               (("rep", (), ()),), ((None, 0),)]
     for innermost in ((), "do", 1, None, True, ("do", 0), (("do", 0),)):
-        values.extend(wrapped(innermost, times) for times in (2, 3, 30, 31, 57))
+        values.extend(wrapped(innermost, times) for times in (2, 3, 30, 31, 57, 77))
     for head in (("do",), ("rep", 2), ("rep",), ("wood",), (True, False)):
-        values.extend(chained(head, depth) for depth in (1, 2, 3, 30, 60))
+        values.extend(chained(head, depth) for depth in (1, 2, 3, 30, 60, 80))
     for innermost in (((),), ("do",), (("do", 2),), (None,), wrapped("do", 2)):
         values.append(nested_run(29, innermost))
     values.append(nested_run(31))
