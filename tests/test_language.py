@@ -3,6 +3,7 @@
 import ast
 import builtins
 import importlib
+import inspect
 import unittest
 from pathlib import Path
 
@@ -17,9 +18,22 @@ BUILTINS = set(
 BARRED = (ast.AsyncFunctionDef, ast.AsyncFor, ast.AsyncWith, ast.Await, ast.Div)
 TOP = (ast.Import, ast.ImportFrom, ast.FunctionDef, ast.ClassDef, ast.Assign, ast.Expr)
 INTERFACE = {
-    "errors": "MintError BadText BadSystem BadPlan NotPossible BadLogs",
-    "books": "is_name is_book is_stock is_extended is_run move_index",
-    "texts": "print_book print_stock print_run read_book read_stock read_extended read_run",
+    "errors": ["MintError", "BadText", "BadSystem", "BadPlan", "NotPossible", "BadLogs"],
+    "books": ["is_name(value)", "is_book(value)", "is_stock(book, value)", "is_extended(book, value)",
+              "is_run(book, value)", "move_index(book, name)"],
+    "texts": ["print_book(book)", "print_stock(book, stock)", "print_run(book, run)", "read_book(text)",
+              "read_stock(book, text)", "read_extended(book, text)", "read_run(book, text)"],
+    "runs": ["can_do(book, stock, m)", "done(book, stock, m)", "need(book, run)", "change(book, run)", "length(run)",
+             "end_of_run(book, stock, run)", "stops_at(book, stock, run)", "covers(stock, other)"],
+    "systems": ["is_system(width, system)", "solves(width, system, point)", "refutes(width, system, refutation)",
+                "solve(width, system)"],
+    "least": ["value(cost, point)", "shows(width, system, cost, witness)", "least(width, system, cost)"],
+    "prices": ["worth(prices, stock)", "are_prices(book, value)", "is_loop(book, value)", "gain(book, loop)",
+               "parting(book)", "is_parting(book, value)", "free_kinds(book)", "loop_run(book, loop)"],
+    "bounds": ["price_bound(book, stock, k)", "is_price_bound(book, stock, k, value)"],
+    "extended": ["in_order(rows)", "behind(book, label, run)"],
+    "plans": ["is_plan(book, value)", "labels(book, stock, plan)", "end_of(book, stock, plan)",
+              "run_for(book, stock, plan, number)"],
 }
 
 
@@ -76,6 +90,30 @@ class LanguageTests(unittest.TestCase):
                     bound.extend(target.id for target in node.targets)
             self.assertEqual(len(bound), len(set(bound)), name)
 
+    def test_no_variable_has_the_name_of_a_class_or_an_import(self):
+        for name, tree in self.trees.items():
+            barred = set()
+            for node in tree.body:
+                if isinstance(node, ast.ImportFrom):
+                    barred.update(alias.asname or alias.name for alias in node.names)
+                elif isinstance(node, ast.ClassDef):
+                    barred.add(node.name)
+            for node in ast.walk(tree):
+                if isinstance(node, ast.arg):
+                    self.assertNotIn(node.arg, barred, (name, node.lineno))
+                if isinstance(node, ast.Name) and not isinstance(node.ctx, ast.Load):
+                    self.assertNotIn(node.id, barred, (name, node.lineno))
+
+    def test_no_two_files_import_from_each_other(self):
+        wanted = {}
+        for name, node in self.nodes(ast.ImportFrom):
+            wanted.setdefault(name, set()).add(node.module.rpartition(".")[2] + ".py")
+        for name in self.trees:
+            seen = list(wanted.get(name, ()))
+            for other in seen:
+                self.assertNotEqual(other, name)
+                seen.extend(third for third in wanted.get(other, ()) if third not in seen)
+
     def test_builtins(self):
         known = set(dir(builtins))
         for name, node in self.nodes(ast.Name):
@@ -100,11 +138,14 @@ class LanguageTests(unittest.TestCase):
 
 class InterfaceTests(unittest.TestCase):
     def test_each_name_is_defined_in_its_file(self):
-        for module, names in INTERFACE.items():
-            for name in names.split():
+        for module, entries in INTERFACE.items():
+            for entry in entries:
+                name, _, arguments = entry.partition("(")
                 defined = getattr(importlib.import_module(f"mintlaw.{module}"), name)
                 self.assertEqual(defined.__module__, f"mintlaw.{module}")
                 self.assertTrue(defined.__doc__)
+                if arguments != "":
+                    self.assertEqual(str(inspect.signature(defined)), "(" + arguments)
 
 
 if __name__ == "__main__":
