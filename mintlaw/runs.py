@@ -6,10 +6,10 @@ from mintlaw.vectors import less, plus, scaled
 
 def covers(stock, other):
     """Tell whether a stock or an extended stock has at least as much as another one, at each entry."""
-    return all([
-        high == ENDLESS or (low != ENDLESS and low <= high)
-        for high, low in zip(stock, other)
-    ])
+    for high, low in zip(stock, other):
+        if high != ENDLESS and (low == ENDLESS or low > high):
+            return False
+    return True
 
 
 def can_do(book, stock, m):
