@@ -34,7 +34,23 @@ INTERFACE = {
     "extended": ["in_order(rows)", "behind(book, label, run)"],
     "plans": ["is_plan(book, value)", "labels(book, stock, plan)", "end_of(book, stock, plan)",
               "run_for(book, stock, plan, number)"],
+    "covering": ["greatest(book, stock)", "report(book, stock)", "is_closed(book, stock, rows)",
+                 "is_report(book, stock, value)", "most_of(book, stock, k)", "run_to_most(book, stock, k)"],
+    "boxes": ["box_stocks(book, b)", "without_end(book, stock, k)", "frontier(book, k, b)", "border(book, k, b)",
+              "is_border(book, k, b, value)"],
+    "histories": ["is_history(book, value)", "flow(book, history, number)", "carry_out(book, history)",
+                  "audit(book, history, prices)", "logs_of(history)", "merged(logs)"],
+    "recalls": ["is_recall(book, history, value)", "strike(book, history, recall)",
+                "stands(book, history, recall, refunds)", "refunds(book, history, recall)",
+                "refund_paper(book, history, recall)", "check_refunds(book, history, recall, refunds, paper)",
+                "ends(book, history, recall, refunds)", "cheapest(book, history, recall, prices, most)"],
+    "sessions": ["Session(book)"],
+    "verdicts": ["verdict(book, stock)", "is_verdict(book, stock, value)"],
+    "cures": ["without(book, indexes)", "least_cure(book, k)", "is_cure(book, k, value)"],
+    "verdict_texts": ["print_plan(book, plan)", "print_verdict(book, verdict)", "read_plan(book, text)",
+                      "read_verdict(book, text)", "check_text(book, stock, text)"],
 }
+METHODS = {"Session": ["enter(self, line)", "book(self)", "history(self)"]}
 
 
 def package_files():
@@ -146,6 +162,12 @@ class InterfaceTests(unittest.TestCase):
                 self.assertTrue(defined.__doc__)
                 if arguments != "":
                     self.assertEqual(str(inspect.signature(defined)), "(" + arguments)
+
+    def test_each_method_is_defined_in_its_class(self):
+        for name, entries in METHODS.items():
+            for entry in entries:
+                method = vars(getattr(importlib.import_module("mintlaw.sessions"), name))[entry.partition("(")[0]]
+                self.assertEqual(method.__name__ + str(inspect.signature(method)), entry)
 
 
 if __name__ == "__main__":
