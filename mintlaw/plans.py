@@ -1,8 +1,9 @@
 """Plans: runs and pumps that show what can be had without end, and the runs that they stand for."""
 
 from mintlaw.books import MOST_DEPTH, is_run
+from mintlaw.detours import parts_for_pump
 from mintlaw.errors import BadPlan
-from mintlaw.extended import END, behind
+from mintlaw.extended import END, behind, behind_pump
 from mintlaw.nesting import joined, repeated
 from mintlaw.runs import change, effect, greater
 from mintlaw.vectors import less
@@ -24,9 +25,14 @@ def labels(book, stock, plan):
     """Return the list of the labels of a plan for a stock; raise BadPlan if there are none."""
     if not is_plan(book, plan):
         raise BadPlan("not a plan")
-    found = [stock]
-    for part in plan:
-        label = behind_part(book, found[-1], part)
+    return labels_of_parts(book, stock, plan)
+
+
+def labels_of_parts(book, label, parts):
+    """Return the list of the labels of some parts of a plan, from a label on; raise BadPlan if there are none."""
+    found = [label]
+    for part in parts:
+        label = behind_part(book, label, part)
         if label is None:
             raise BadPlan("a part of the plan is not allowed")
         found.append(label)
@@ -36,13 +42,7 @@ def labels(book, stock, plan):
 def behind_part(book, label, part):
     """Return the label behind a part of a plan, or None if the part is not allowed for the label."""
     word, run = part
-    end = behind(book, label, run)
-    if end is None or word == "run":
-        return end
-    changed = change(book, run)
-    if any([entry != END and more < 0 for entry, more in zip(label, changed)]):
-        return None
-    return tuple([END if more > 0 else entry for entry, more in zip(label, changed)])
+    return behind(book, label, run) if word == "run" else behind_pump(book, label, run)
 
 
 def end_of(book, stock, plan):
@@ -57,10 +57,15 @@ def run_for(book, stock, plan, number):
     """Return a run from a stock to the end of a plan, with at least the number where that is without end."""
     rows = labels(book, stock, plan)
     wanted = tuple([number if entry == END else entry for entry in rows[-1]])
+    return run_of_parts(book, rows, plan, wanted)
+
+
+def run_of_parts(book, rows, parts, wanted):
+    """Return the run that is played for parts with these labels, to have what is wanted behind them."""
     runs = []
     # From the last part to the first: each tells how much the ones before it must leave of what is without end.
-    for at in reversed(range(len(plan))):
-        runs.append(run_of_part(book, rows[at], plan[at], wanted))
+    for at in reversed(range(len(parts))):
+        runs.append(run_of_part(book, rows[at], parts[at], wanted))
         wanted = wanted_before(book, rows[at], runs[-1], wanted)
     return joined(list(reversed(runs)))
 
@@ -72,7 +77,11 @@ def run_of_part(book, label, part, wanted):
         return run
     changed = change(book, run)
     times = max([plays_for(entry, more, low) for entry, more, low in zip(label, changed, wanted)])
-    return repeated(book, label, run, times, MOST_DEPTH)
+    found = repeated(book, label, run, times, MOST_DEPTH)
+    if found is None:
+        parts = parts_for_pump(book, label, run)
+        found = run_of_parts(book, labels_of_parts(book, label, parts), parts, wanted)
+    return found
 
 
 def plays_for(entry, more, wanted):

@@ -79,6 +79,37 @@ class RepeatedTests(unittest.TestCase):
                 times = dice.randint(1, 7)
                 self.check(book, need(book, (("rep", times, run),)), run, times, depth_of(run))
 
+    def test_very_great_counts_at_each_level(self):
+        # What is made at the deepest level is made all at once, before or behind the rest.
+        book = (("a", "b"), (("make", (0, 0), (0, 0), (1, 0)), ("turn", (1, 0), (0, 0), (0, 1))))
+        make, turn = ("do", 0), ("do", 1)
+        for first, last, spare in (((make,), (), 0), ((), (turn,), 1)):
+            run = (*first, make, turn, *last)
+            for _ in range(29):
+                run = (*first, ("rep", 10 ** 9, run), *last)
+            label = (need(book, (("rep", 10 ** 9, run),))[0] + spare, 0)
+            self.assertLess(len(self.check(book, label, run, 10 ** 9, 30)), 10)
+
+    def test_what_is_written_out_at_the_deepest_level_alone(self):
+        # Nothing can be made earlier or later at any level, but the count at the deepest one is small.
+        book = (("a", "b", "c"), (("turn", (1, 0, 0), (0, 0, 0), (0, 1, 0)), ("back", (0, 1, 0), (0, 0, 0), (1, 0, 1))))
+        run = (("rep", 9, (("do", 1),)), ("rep", 10, (("do", 0),)))
+        count = 10
+        for _ in range(28):
+            count = count * 3
+            run = (("rep", count - 1, (("do", 1),)), ("rep", count, run))
+        self.assertEqual(depth_of(run), 30)
+        found = self.check(book, need(book, (("rep", 10 ** 6, run),)), run, 10 ** 6, 30)
+        self.assertLess(len(found), 10)
+
+    def test_what_is_too_much_to_be_written_down(self):
+        book = (("a", "b", "c"), (("turn", (1, 0, 0), (0, 0, 0), (0, 1, 0)), ("back", (0, 1, 0), (0, 0, 0), (1, 0, 1))))
+        run = (("rep", 10 ** 9, (("do", 0),)), ("rep", 10 ** 9, (("do", 1),)))
+        self.assertIsNone(repeated(book, need(book, run), run, 10 ** 9, 2))
+        with mock.patch("mintlaw.nesting.MANY_STEPS", 40):
+            self.assertEqual(len(self.check(book, (9, 0, 0), (("do", 0), ("do", 1)), 20, 1)), 40)
+            self.assertIsNone(repeated(book, (9, 0, 0), (("do", 0), ("do", 1)), 21, 1))
+
     def test_what_cannot_be_made_earlier_or_later(self):
         book = (("a", "b", "c"), (("turn", (1, 0, 0), (0, 0, 0), (0, 1, 0)), ("back", (0, 1, 0), (0, 0, 0), (1, 0, 1))))
         inner = (("rep", 7, (("do", 0),)), ("do", 0))
