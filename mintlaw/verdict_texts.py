@@ -102,9 +102,19 @@ def read_numbers(word, many, line):
     return tuple(numbers)
 
 
+def parted_by(book, text):
+    """Return what stands before and behind the word that parts a line; one of them is empty if it is missing."""
+    # A kind of this name may stand before the word, a move of this name behind it, and no book has both.
+    if "by" in book[0]:
+        head, _, tail = text.rpartition(BY)
+    else:
+        head, _, tail = text.partition(BY)
+    return head, tail
+
+
 def read_top(book, line):
     """Return the pair of a report that a line stands for; raise BadText(1) if it is none."""
-    stock_text, _, plan_text = line[len(TOP):].partition(BY)
+    stock_text, plan_text = parted_by(book, line[len(TOP):])
     row = read_extended(book, stock_text)
     # The items may be in any order for read_extended.
     if print_stock(book, row) != stock_text:
@@ -114,7 +124,7 @@ def read_top(book, line):
 
 def read_answer(book, kind, line):
     """Return the answer for a kind that a line stands for; raise BadText(1) if it is none."""
-    head, _, tail = line.partition(BY)
+    head, tail = parted_by(book, line)
     words = head.split(" ")
     if words == ["endless", kind]:
         return "end", read_plan(book, tail)

@@ -48,6 +48,17 @@ def plan_by_hand(book, plan):
     return " > ".join(f"{word} {print_run(book, run)}" for word, run in plan) or "nothing"
 
 
+def named_by(book, at):
+    """Return the book in which the kind or move at a place, the moves being behind the kinds, has the name `by`."""
+    kinds, moves = book
+    names = [*kinds, *(move[0] for move in moves)]
+    if "by" in names:
+        names[names.index("by")] = names[at]
+    names[at] = "by"
+    width = len(kinds)
+    return tuple(names[:width]), tuple((name, *move[1:]) for name, move in zip(names[width:], moves))
+
+
 def some_verdict(dice, book):
     """Return what has the form of a verdict, though it is hardly a right one."""
     width, many = len(book[0]), len(book[1])
@@ -289,6 +300,130 @@ class VerdictTextTests(unittest.TestCase):
             self.assertIs(check_text(SALE, (5, 0), text), is_verdict(SALE, (5, 0), value))
             read += 1
         self.assertGreater(read, 300)
+
+
+class ByTests(unittest.TestCase):
+    """Books with a kind or move called `by`: [1.1] allows the name, but part 11 says that it has none of them."""
+
+    def is_read_back(self, book, value):
+        text = print_verdict(book, value)
+        self.assertEqual(text, print_by_hand(book, value))
+        self.assertEqual(read_verdict(book, text), value)
+        return text
+
+    def is_wrong_in(self, number, text, book):
+        with self.assertRaises(BadText) as caught:
+            read_verdict(book, text)
+        self.assertEqual(caught.exception.line, number, text)
+        self.assertIs(check_text(book, (3,) * len(book[0]), text), False)
+
+    def test_a_kind_without_moves(self):
+        text = "prices 1\nloop\ntop nothing by nothing\nmost by 0 by nothing"
+        value = (((1,), ()), (((0,), ()),), (("most", 0, ()),))
+        self.assertEqual(self.is_read_back((("by",), ()), value), text)
+        self.assertIs(check_text((("by",), ()), (0,), text), True)
+        self.assertIs(check_text((("by",), ()), (1,), text), False)
+
+    def test_a_kind_right_before_the_word(self):
+        book = (("aa", "by"), ())
+        text = "prices 1 1\nloop\ntop 1 aa + 2 by by nothing\nmost aa 1 by nothing\nmost by 2 by nothing"
+        value = (((1, 1), ()), (((1, 2), ()),), (("most", 1, ()), ("most", 2, ())))
+        self.assertEqual(self.is_read_back(book, value), text)
+        self.assertIs(check_text(book, (1, 2), text), True)
+
+    def test_a_kind_without_end(self):
+        book = (("by",), (("mk", (0,), (1,), (1,)),))
+        pump = (("pump", (("do", 0),)),)
+        text = "prices 0\nloop 1\ntop endless by by pump mk\nendless by by pump mk"
+        self.assertEqual(self.is_read_back(book, (((0,), (1,)), (((-1,), pump),), (("end", pump),))), text)
+        self.assertIs(check_text(book, (0,), text), True)
+
+    def test_a_kind_further_before_the_word(self):
+        book = (("by", "aa"), (("by2", (1, 0), (0, 2), (0, 2)),))
+        text = ("prices 2 1\nloop 0\ntop 1 by + 3 aa by nothing\ntop 5 aa by run by2\n"
+                "most by 1 by nothing\nmost aa 5 by by2")
+        self.assertEqual(print_verdict(book, read_verdict(book, text)), text)
+        self.assertIs(check_text(book, (1, 3), text), True)
+
+    def test_a_move(self):
+        book = (("aa", "bb"), (("by", (1, 0), (0, 2), (0, 2)),))
+        text = ("prices 2 1\nloop 0\ntop 2 aa by nothing\ntop 1 aa + 2 bb by run by\ntop 4 bb by run by > run by\n"
+                "most aa 2 by nothing\nmost bb 4 by by; by")
+        self.assertEqual(print_verdict(book, read_verdict(book, text)), text)
+        self.assertIs(check_text(book, (2, 0), text), True)
+        other = text.replace("by by; by", "by 2 x (by)")
+        self.assertIs(check_text(book, (2, 0), other), True)
+
+    def test_right_verdicts(self):
+        for book, stock in small_worlds(428, 80):
+            for at in range(len(book[0]) + len(book[1])):
+                other = named_by(book, at)
+                found = verdict(other, stock)
+                self.assertIs(check_text(other, stock, self.is_read_back(other, found)), True)
+
+    def test_what_has_the_form_of_a_verdict(self):
+        dice = Random(433)
+        for width in range(1, 7):
+            for many in (0, 1, 8):
+                for at in range(width + many):
+                    for _ in range(4):
+                        book = named_by(some_book(dice, width, many), at)
+                        self.is_read_back(book, some_verdict(dice, book))
+
+    def test_wrong_lines(self):
+        book = (("aa", "by"), (("mk", (1, 0), (0, 1), (0, 1)),))
+        lines = ["prices 1 1", "loop 0", "top 3 aa + 3 by by nothing", "top 2 aa + 4 by by run mk",
+                 "most aa 3 by nothing", "most by 6 by 3 x (mk)"]
+        read_verdict(book, "\n".join(lines))
+        cases = {
+            3: ("top 3 by", "top 3 by by", "top 3 by by ", "top by nothing", "top by by nothing", "top  by by nothing",
+                "top 3 by nothing", "top 3 by by by nothing", "top 3 by by by by nothing", "top 3 by by nothing by nothing",
+                "top 3 by  by nothing", "top 3 by by  nothing", "top 3 by + 3 aa by nothing", "top 3 by + 3 by by nothing",
+                "top 0 by by nothing", "top nothing by by nothing", "top by 3 by nothing", "top 3 aa by by nothing",
+                "top 3 aa + by by nothing", "top 3 by + by nothing", "top endless by", "top endless by nothing", "top by",
+                "top 3 by by run by", "top 3 by by run mk > run by", "top 3 by by run mk by run mk", "top 3 by by mk"),
+            5: ("most by 3 by nothing", "most by by nothing", "most aa by nothing", "most aa 3 by by nothing", "most aa by 3",
+                "most aa 3 by by", "most aa 3 by nothing by nothing", "endless by by nothing", "endless aa by by nothing"),
+            6: ("most by 6", "most by 6 by", "most by 6 by ", "most by by nothing", "most by by 6 by nothing",
+                "most 6 by nothing", "most by 6 by by nothing", "most by 6  by nothing", "most by  6 by nothing",
+                "most by 06 by nothing", "most by 6 by by", "most by 6 by mk; by", "most by 6 by nothing by nothing", "most by 6 6 by nothing",
+                "endless by", "endless by by", "endless by by ", "endless by nothing", "endless by by by nothing",
+                "endless by 6 by nothing", "endless by by mk", "endless by by run by", "by by nothing", "by", " by "),
+        }
+        for number, spoilt in cases.items():
+            for line in spoilt:
+                self.is_wrong_in(number, "\n".join([*lines[:number - 1], line, *lines[number:]]), book)
+
+    def test_wrong_lines_with_a_move(self):
+        book = (("aa",), (("by", (1,), (0,), (0,)),))
+        lines = ["prices 1", "loop 0", "top 3 aa by nothing", "most aa 3 by nothing"]
+        read_verdict(book, "\n".join(lines))
+        for line in ("top 3 by nothing", "top 3 aa by by", "top 3 aa by by nothing", "top 3 aa by run by by nothing",
+                     "top 3 aa by run by > by", "top 3 aa by run by by run by", "top 3 by by nothing"):
+            self.is_wrong_in(3, "\n".join([*lines[:2], line, *lines[3:]]), book)
+        for line in ("most aa 3 by by by nothing", "most by 3 by nothing", "most aa by by", "most aa 3 by by by",
+                     "most aa 3 by"):
+            self.is_wrong_in(4, "\n".join([*lines[:3], line]), book)
+
+    def test_each_text_that_is_read_is_the_text_of_what_it_gives(self):
+        dice = Random(434)
+        words = ("by", "by", "top", "most", "endless", "nothing", "run", "pump", "mk", "aa", "0", "2", "+", ">", "mk;", "")
+        for book in ((("aa", "by"), (("mk", (1, 0), (0, 1), (0, 1)),)), (("by",), (("mk", (0,), (1,), (1,)),)),
+                     (("aa",), (("by", (1,), (0,), (0,)), ("mk", (1,), (0,), (0,))))):
+            read = 0
+            for _ in range(3000):
+                lines = [line.split(" ") for line in print_verdict(book, some_verdict(dice, book)).split("\n")]
+                line = lines[dice.randrange(2, len(lines))]
+                at = dice.randrange(len(line))
+                line[at:at + dice.randint(0, 1)] = [dice.choice(words) for _ in range(dice.randint(0, 2))]
+                text = "\n".join(" ".join(line) for line in lines)
+                try:
+                    value = read_verdict(book, text)
+                except BadText:
+                    continue
+                self.assertEqual(print_verdict(book, value), text)
+                read += 1
+            self.assertGreater(read, 300)
 
 
 class CheckTextTests(unittest.TestCase):
